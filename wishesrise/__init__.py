@@ -1,0 +1,1 @@
+"""Wishesrise: rising wishes that never work against one another."""

@@ -1,0 +1,92 @@
+"""Examining what is passed: each check raises the error that the document names."""
+
+from wishesrise.errors import InvalidLot, InvalidMarks, InvalidNumbers, InvalidRow, InvalidRows, NotRising
+from wishesrise.limits import MOST_MARKS, MOST_NAME, MOST_NUMBER
+from wishesrise.rows import unrisen_row
+
+LETTERS = "abcdefghijklmnopqrstuvwxyz"
+
+
+def is_name(value):
+    """Tell whether a value is a name."""
+    if not isinstance(value, str) or not 1 <= len(value) <= MOST_NAME:
+        return False
+    return all([letter in LETTERS for letter in value])
+
+
+def is_row(value, size):
+    """Tell whether a value is a row of so many signs."""
+    if not isinstance(value, str) or len(value) != size:
+        return False
+    return all([sign in "01" for sign in value])
+
+
+def is_integer(value):
+    """Tell whether a value is an integer; truths are none."""
+    return isinstance(value, int) and not isinstance(value, bool)
+
+
+def is_share(value):
+    """Tell whether a value may be a number of shares."""
+    return is_integer(value) and 0 <= value <= MOST_NUMBER
+
+
+def check_marks(marks):
+    """Raise InvalidMarks for what is no marks."""
+    if not isinstance(marks, tuple) or len(marks) == 0:
+        raise InvalidMarks(None)
+    for index, mark in enumerate(marks):
+        if index >= MOST_MARKS or not is_name(mark) or mark in marks[:index]:
+            raise InvalidMarks(index)
+
+
+def are_marks(value):
+    """Tell whether a value is marks."""
+    try:
+        check_marks(value)
+    except InvalidMarks:
+        return False
+    return True
+
+
+def check_numbers(numbers, many):
+    """Raise InvalidNumbers for what is no numbers of shares with so many rows."""
+    if not isinstance(numbers, tuple) or len(numbers) < many:
+        raise InvalidNumbers(None)
+    for index, number in enumerate(numbers):
+        if index >= many or not is_share(number):
+            raise InvalidNumbers(index)
+    if sum(numbers) == 0:
+        raise InvalidNumbers(None)
+
+
+def check_row(row, size):
+    """Raise InvalidRow for what is no row of so many signs."""
+    if not is_row(row, size):
+        raise InvalidRow(row)
+
+
+def check_rows(rows, size):
+    """Raise InvalidRows for what is no tuple of rows of so many signs."""
+    if not isinstance(rows, tuple):
+        raise InvalidRows(None)
+    for index, row in enumerate(rows):
+        if not is_row(row, size):
+            raise InvalidRows(index)
+
+
+def check_lot(lot, size):
+    """Raise InvalidLot for what is no lot of rows of so many signs."""
+    if not isinstance(lot, tuple):
+        raise InvalidLot(None)
+    for index, row in enumerate(lot):
+        if not is_row(row, size) or (index > 0 and row <= lot[index - 1]):
+            raise InvalidLot(index)
+
+
+def check_rising(lot, size):
+    """Raise InvalidLot for what is no lot, then NotRising for one that is not rising."""
+    check_lot(lot, size)
+    row = unrisen_row(lot)
+    if row is not None:
+        raise NotRising(row)
