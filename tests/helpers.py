@@ -1,9 +1,15 @@
-"""What several test files use: wrong values, and a test case that looks at errors whole."""
+"""What several test files use: shares to ask about, wrong values, and a test case that looks at errors whole."""
 
+import itertools
+import random
 import unittest
 from fractions import Fraction
 
 from wishesrise import errors
+from wishesrise.shares import Shares
+
+MOST = 10 ** 12
+MARKS = ("a", "bc", "def", "ghijklmn")
 
 # Each error of the document: its base, and the name of its attribute, None if it has none.
 ERRORS = {
@@ -88,6 +94,96 @@ def hard_marks():
             (("a", Sullen()), 1), (("a", "b", "c", "d", "e"), 4), (("a", "b", "c", "d", "a"), 4),
             (("a", "b", "c", "d", "e", "f"), 4), (("a", "b", "c", "d", 5), 4), (("a", "b", "b", "d", "e"), 2),
             (("a", "b", "c", "D", "e"), 3), ((0, "a", "a", "b", "c"), 0), (tuple("abcdefghijkl"), 4)]
+
+
+def all_rows(size):
+    """Return all rows of so many signs, in their order."""
+    return ["".join(signs) for signs in itertools.product("01", repeat=size)]
+
+
+def upper_or(one, two):
+    """Return the or of two rows."""
+    return format(int(one, 2) | int(two, 2), f"0{len(one)}b")
+
+
+def lower_and(one, two):
+    """Return the and of two rows."""
+    return format(int(one, 2) & int(two, 2), f"0{len(one)}b")
+
+
+def is_over(upper, lower):
+    """Tell whether a row lies above another one."""
+    return int(upper, 2) | int(lower, 2) == int(upper, 2)
+
+
+def rising_lots(size):
+    """Return all rising lots, in their order: all sets of rows that are closed upwards, one row after the other."""
+    lots = [()]
+    # A row comes in only behind all rows above it, as those are greater numbers.
+    for row in reversed(all_rows(size)):
+        uppers = [upper for upper in all_rows(size) if upper != row and is_over(upper, row)]
+        lots += [(row,) + lot for lot in lots if set(uppers) <= set(lot)]
+    return sorted(lots)
+
+
+def some(seed, many, size=None):
+    """Return some shares over one to four marks, or over so many: small and great numbers, also with zeros."""
+    chance = random.Random(seed)
+    found = []
+    while len(found) < many:
+        marks = MARKS[:size or chance.randint(1, 4)]
+        most = chance.choice([1, 2, 30, MOST])
+        numbers = tuple(chance.choice([0, chance.randint(0, most)]) for _ in range(2 ** len(marks)))
+        if any(numbers):
+            found.append(Shares(marks, numbers))
+    return found
+
+
+def full(seed, many, size, most):
+    """Return some shares over so many marks, all numbers from 1 to a most one."""
+    chance = random.Random(seed)
+    return [Shares(MARKS[:size], tuple(chance.randint(1, most) for _ in range(2 ** size))) for _ in range(many)]
+
+
+def fitting(seed, many, size):
+    """Return some shares over so many marks that fit: products of factors for two marks alike, some without some rows."""
+    chance = random.Random(seed)
+    found = []
+    for _ in range(many):
+        numbers = [chance.randint(1, 20)] * 2 ** size
+        for one, two in itertools.combinations(range(size), 2):
+            factor = chance.choice([1, 1, 2, 3])
+            numbers = [number * (factor if row[one] == row[two] else 1) for row, number in zip(all_rows(size), numbers)]
+            if chance.random() < 0.2:
+                # Without the rows that have the first mark and not the other one, ors and ands stay among the rows.
+                numbers = [0 if row[one] > row[two] else number for row, number in zip(all_rows(size), numbers)]
+        for place in range(size):
+            low, high = chance.randint(1, 5), chance.randint(1, 5)
+            numbers = [number * (high if row[place] == "1" else low) for row, number in zip(all_rows(size), numbers)]
+        found.append(Shares(MARKS[:size], tuple(numbers)))
+    return found
+
+
+def touched(seed, found):
+    """Return these shares, each with one number that is a little less or more, or 0."""
+    chance = random.Random(seed)
+    changed = []
+    for shares in found:
+        numbers = list(shares.numbers)
+        place = chance.randrange(len(numbers))
+        number = numbers[place]
+        changed_number = chance.choice([0, number - 1, number + 1, number // 2, number * 2])
+        numbers[place] = min(max(0, changed_number), MOST)
+        if any(numbers):
+            changed.append(Shares(shares.marks, tuple(numbers)))
+    return changed
+
+
+def mixed(seed, size, many):
+    """Return shares of all these kinds over so many marks."""
+    chosen = fitting(seed, many, size)
+    return (some(seed, many, size) + full(seed, many, size, 3) + full(seed, many, size, MOST)
+            + chosen + touched(seed, chosen) + touched(seed + 1, touched(seed + 2, chosen)))
 
 
 class Case(unittest.TestCase):

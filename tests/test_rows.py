@@ -3,7 +3,9 @@
 import itertools
 import unittest
 
-from wishesrise.rows import and_of, every_row, is_least, lies_above, or_of, place_of, rows_above, unrisen_row
+from wishesrise.rows import (
+    and_of, bits_of, every_row, is_least, lies_above, or_of, place_of, rows_above, rows_below, unrisen_row,
+)
 
 
 def all_signs(size):
@@ -30,6 +32,12 @@ class Rows(unittest.TestCase):
                 self.assertEqual(or_of(one, two), format(a | b, f"0{size}b"))
                 self.assertEqual(and_of(one, two), format(a & b, f"0{size}b"))
                 self.assertEqual(one in rows_above(two), a | b == a)
+                self.assertEqual(two in rows_below(one), a | b == a)
+
+    def test_bits(self):
+        self.assertEqual([bits_of(()), bits_of(("00",)), bits_of(("01", "11")), bits_of(("1",))], [0, 1, 10, 2])
+        self.assertEqual(bits_of(("01", "11")) & bits_of(("10", "11")), bits_of(("11",)))
+        self.assertEqual(bits_of(every_row(4)), 2 ** 16 - 1)
 
     def test_some_by_hand(self):
         self.assertTrue(lies_above("0110", "0110"))
@@ -39,6 +47,7 @@ class Rows(unittest.TestCase):
         self.assertEqual(or_of("0110", "1010"), "1110")
         self.assertEqual(and_of("0110", "1010"), "0010")
         self.assertEqual(rows_above("010"), ("010", "011", "110", "111"))
+        self.assertEqual(rows_below("101"), ("000", "001", "100", "101"))
 
     def test_unrisen_and_least(self):
         self.assertIsNone(unrisen_row(()))

@@ -2,30 +2,16 @@
 
 import copy
 import math
-import random
 import unittest
 from unittest import mock
 
-from tests.helpers import Fond, Sullen, strange
+from tests.helpers import Fond, Sullen, some, strange
 from wishesrise import shares as module
 from wishesrise.lots import all_rising, rows_of
 from wishesrise.shares import Shares
 
 MOST = 10 ** 12
 LAMPS = "marks lamp, door\n00: 3\n01: 1\n11: 2"
-
-
-def some(seed, many):
-    """Some shares over one to four marks."""
-    chance = random.Random(seed)
-    found = []
-    while len(found) < many:
-        marks = ("a", "bc", "def", "ghijklmn")[:chance.randint(1, 4)]
-        most = chance.choice([1, 2, 30, MOST])
-        numbers = tuple(chance.choice([0, chance.randint(0, most)]) for _ in range(2 ** len(marks)))
-        if any(numbers):
-            found.append(Shares(marks, numbers))
-    return found
 
 
 class Made(unittest.TestCase):

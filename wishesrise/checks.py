@@ -1,6 +1,6 @@
 """Examining what is passed: each check raises the error that the document names."""
 
-from wishesrise.errors import InvalidLot, InvalidMarks, InvalidNumbers, InvalidRow, InvalidRows, NotRising
+from wishesrise.errors import InvalidLot, InvalidMarks, InvalidNumbers, InvalidRow, InvalidRows, NotRising, UnknownMark
 from wishesrise.limits import MOST_MARKS, MOST_NAME, MOST_NUMBER
 from wishesrise.rows import unrisen_row
 
@@ -47,6 +47,35 @@ def are_marks(value):
     except InvalidMarks:
         return False
     return True
+
+
+def is_mark_of(value, marks):
+    """Tell whether a value is one of these marks."""
+    # Other objects may call themselves equal to a mark.
+    return isinstance(value, str) and value in marks
+
+
+def check_mark(mark, marks):
+    """Raise UnknownMark for what is none of these marks."""
+    if not is_mark_of(mark, marks):
+        raise UnknownMark(mark)
+
+
+def check_some_marks(some, marks):
+    """Raise InvalidMarks for what is no tuple of some of these marks, at least one, in their order."""
+    if not isinstance(some, tuple) or len(some) == 0:
+        raise InvalidMarks(None)
+    left = marks
+    for index, mark in enumerate(some):
+        if not is_mark_of(mark, left):
+            raise InvalidMarks(index)
+        left = left[left.index(mark) + 1:]
+
+
+def check_sign(sign):
+    """Raise InvalidRow for what is no sign."""
+    if not is_row(sign, 1):
+        raise InvalidRow(sign)
 
 
 def check_numbers(numbers, many):

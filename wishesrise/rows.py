@@ -17,6 +17,11 @@ def place_of(row):
     return int(row, 2)
 
 
+def bits_of(lot):
+    """Return a number that has a bit for each row of a lot, so that `&` gives the bits of what two lots have."""
+    return sum([1 << place_of(row) for row in lot])
+
+
 def lies_above(upper, lower):
     """Tell whether a row lies above another one of as many signs."""
     return all([high == "1" or low == "0" for high, low in zip(upper, lower)])
@@ -35,6 +40,11 @@ def and_of(one, two):
 def rows_above(row):
     """Return the tuple of all rows above a row, itself included, in their order."""
     return tuple([upper for upper in every_row(len(row)) if lies_above(upper, row)])
+
+
+def rows_below(row):
+    """Return the tuple of all rows that a row lies above, itself included, in their order."""
+    return tuple([lower for lower in every_row(len(row)) if lies_above(row, lower)])
 
 
 def is_over_some(row, lows):
