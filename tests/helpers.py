@@ -85,6 +85,15 @@ def strange():
             object(), object, len, Sullen(), Fond(), [[[]]], nested(20)]
 
 
+def no_shares():
+    """Return what is no Shares."""
+    class Double:
+        marks, numbers, total = ("a",), (1, 2), 3
+
+    one = Shares(("a",), (1, 2))
+    return strange() + [Double(), Shares, "marks a\n0: 1", "", 0, 1, MOST, (("a",), (1, 2)), (1, 2), (), [one], (one,)]
+
+
 def hard_marks():
     """Return what is no marks, each with the index that InvalidMarks tells."""
     return [(["a"], None), ("a", None), (None, None), (True, None), ({"a": 1}, None), (Sullen(), None), ((), None),
@@ -189,7 +198,7 @@ def mixed(seed, size, many):
 class Case(unittest.TestCase):
     """A test case that looks at errors whole."""
 
-    def fails(self, name, told, act, *args, **named):
+    def fails(self, name, told, act, /, *args, **named):
         """Check that act(*args, **named) raises the error of this very class, with this attribute."""
         try:
             act(*args, **named)

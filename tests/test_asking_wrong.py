@@ -3,7 +3,7 @@
 import itertools
 import unittest
 
-from tests.helpers import MOST, Case, Fond, Sullen, nested, strange
+from tests.helpers import MOST, Case, Fond, Sullen, nested, no_shares, strange
 from wishesrise.above import coupling, four, four_sums, is_above, less_at, passes
 from wishesrise.fitting import climbs, failing, fits, near_failing, room
 from wishesrise.helping import help_of, hindering, is_kind, most_hindering
@@ -22,14 +22,6 @@ WRONG_LOTS = [(["01"], None), ("01", None), ("", None), (None, None), ({"01"}, N
               ((("01",),), 0), ((Sullen(),), 0), ((Fond(),), 0), ((nested(19),), 0), (("01", "01"), 1),
               (("10", "01"), 1), (("01", "11", "10"), 2), (("00", "01", "10", "11", "11"), 4), (("01", "2", "0"), 1)]
 WRONG_ROWS = strange() + ["", "0", "011", "02", "0 ", "01\n", "\u0660\u0661", "a", "lamp", 0, 1, 10, ("0", "1"), ("01",)]
-
-
-def no_shares():
-    """Return what is no Shares."""
-    class Double:
-        marks, numbers, total = A, (1, 2), 3
-
-    return strange() + [Double(), Shares, "marks a\n0: 1", "", 0, 1, MOST, (A, (1, 2)), (1, 2), (), nested(20), [TWO], (TWO,)]
 
 
 class NotSharesAtAll(Case):

@@ -4,7 +4,7 @@ from wishesrise.checks import check_lot
 from wishesrise.couplings import sent_down
 from wishesrise.lots import all_rising
 from wishesrise.rows import and_of, every_row, or_of
-from wishesrise.shares_checks import check_same_marks, check_shares
+from wishesrise.shares_checks import check_same_marks, check_shares, check_two
 
 
 def is_above(shares, other):
@@ -14,7 +14,7 @@ def is_above(shares, other):
 
 def less_at(shares, other):
     """Return the first rising lot with less share in the first shares, None if there is none."""
-    _check_two(shares, other)
+    check_two(shares, other)
     for lot in all_rising(shares.marks):
         if shares.sum_of(lot) * other.total < other.sum_of(lot) * shares.total:
             return lot
@@ -23,7 +23,7 @@ def less_at(shares, other):
 
 def coupling(shares, other):
     """Return a coupling of the first shares above the others, None if there is none."""
-    _check_two(shares, other)
+    check_two(shares, other)
     has = [number * other.total for number in shares.numbers]
     asks = [number * shares.total for number in other.numbers]
     sent = sent_down(len(shares.marks), has, asks)
@@ -34,7 +34,7 @@ def coupling(shares, other):
 
 def passes(shares, other):
     """Tell whether the test of rows two by two shows that the first shares lie above the others."""
-    _check_two(shares, other)
+    check_two(shares, other)
     return _four_hold(shares, other, shares, other)
 
 
@@ -54,13 +54,6 @@ def four_sums(shares, other, third, fourth, one, two):
     ors = tuple(sorted(set([or_of(x, y) for x in one for y in two])))
     ands = tuple(sorted(set([and_of(x, y) for x in one for y in two])))
     return shares.sum_of(one) * other.sum_of(two), third.sum_of(ors) * fourth.sum_of(ands)
-
-
-def _check_two(shares, other):
-    """Examine two Shares that are asked about together."""
-    check_shares(shares)
-    check_shares(other)
-    check_same_marks(shares, other)
 
 
 def _check_four(shares, other, third, fourth):

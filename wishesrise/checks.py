@@ -1,7 +1,8 @@
 """Examining what is passed: each check raises the error that the document names."""
 
-from wishesrise.errors import InvalidLot, InvalidMarks, InvalidNumbers, InvalidRow, InvalidRows, NotRising, UnknownMark
-from wishesrise.limits import MOST_MARKS, MOST_NAME, MOST_NUMBER
+from wishesrise.errors import InvalidLot, InvalidMarks, InvalidNumbers, InvalidRow, InvalidRows, InvalidTies
+from wishesrise.errors import NotRising, UnknownMark
+from wishesrise.limits import MOST_FACTOR, MOST_MARKS, MOST_NAME, MOST_NUMBER, MOST_TIES
 from wishesrise.rows import unrisen_row
 
 LETTERS = "abcdefghijklmnopqrstuvwxyz"
@@ -119,3 +120,31 @@ def check_rising(lot, size):
     row = unrisen_row(lot)
     if row is not None:
         raise NotRising(row)
+
+
+def is_rising_lot(value, size):
+    """Tell whether a value is a rising lot of rows of so many signs."""
+    try:
+        check_rising(value, size)
+    except (InvalidLot, NotRising):
+        return False
+    return True
+
+
+def is_tie(value, marks):
+    """Tell whether a value is a tie between two of these marks."""
+    if not isinstance(value, tuple) or len(value) != 3:
+        return False
+    one, two, factor = value
+    if not is_mark_of(one, marks) or not is_mark_of(two, marks) or one == two:
+        return False
+    return is_integer(factor) and 1 <= factor <= MOST_FACTOR
+
+
+def check_ties(ties, marks):
+    """Raise InvalidTies for what is no tuple of ties between these marks."""
+    if not isinstance(ties, tuple):
+        raise InvalidTies(None)
+    for index, tie in enumerate(ties):
+        if index >= MOST_TIES or not is_tie(tie, marks):
+            raise InvalidTies(index)

@@ -5,7 +5,7 @@ from itertools import combinations
 from wishesrise.checks import check_mark, check_sign, check_some_marks
 from wishesrise.errors import NoShares
 from wishesrise.helping import hindering
-from wishesrise.rows import every_row
+from wishesrise.rows import every_row, signs_at
 from wishesrise.shares import Shares
 from wishesrise.shares_checks import check_shares
 
@@ -28,7 +28,7 @@ def seen(shares, marks):
     places = [shares.marks.index(mark) for mark in marks]
     sums = {row: 0 for row in every_row(len(marks))}
     for row, number in zip(every_row(len(shares.marks)), shares.numbers):
-        sums[_signs_at(row, places)] += number
+        sums[signs_at(row, places)] += number
     # A sum that is too great is told by Shares, with its index.
     return Shares(marks, tuple(sums.values()))
 
@@ -49,16 +49,11 @@ def hindering_held(shares):
     return None
 
 
-def _signs_at(row, places):
-    """Return the signs that a row has at these places."""
-    return "".join([row[place] for place in places])
-
-
 def _part(shares, places, signs):
     """Return the Shares where the marks at these places have these signs, None if there are none."""
     marks = tuple([mark for place, mark in enumerate(shares.marks) if place not in places])
     rows = every_row(len(shares.marks))
-    numbers = tuple([number for row, number in zip(rows, shares.numbers) if _signs_at(row, places) == signs])
+    numbers = tuple([number for row, number in zip(rows, shares.numbers) if signs_at(row, places) == signs])
     if len(marks) == 0 or sum(numbers) == 0:
         return None
     return Shares(marks, numbers)

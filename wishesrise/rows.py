@@ -37,6 +37,11 @@ def and_of(one, two):
     return "".join(["0" if "0" in (left, right) else "1" for left, right in zip(one, two)])
 
 
+def signs_at(row, places):
+    """Return the signs that a row has at these places."""
+    return "".join([row[place] for place in places])
+
+
 def rows_above(row):
     """Return the tuple of all rows above a row, itself included, in their order."""
     return tuple([upper for upper in every_row(len(row)) if lies_above(upper, row)])

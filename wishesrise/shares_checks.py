@@ -10,6 +10,13 @@ def check_shares(value):
         raise NotShares(value)
 
 
+def check_two(shares, other):
+    """Raise NotShares for the first of two that is no Shares, then OtherMarks if they have not the same marks."""
+    check_shares(shares)
+    check_shares(other)
+    check_same_marks(shares, other)
+
+
 def check_same_marks(first, *others):
     """Raise OtherMarks if not all of these Shares have the same marks in the same order."""
     for shares in others:
