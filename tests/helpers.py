@@ -135,6 +135,13 @@ def rising_lots(size):
     return sorted(lots)
 
 
+def told_help(shares, one, two):
+    """Return the help of two lots."""
+    numbers = dict(zip(all_rows(len(shares.marks)), shares.numbers))
+    both = sum(numbers[row] for row in one if row in two)
+    return sum(shares.numbers) * both - sum(numbers[row] for row in one) * sum(numbers[row] for row in two)
+
+
 def some(seed, many, size=None):
     """Return some shares over one to four marks, or over so many: small and great numbers, also with zeros."""
     chance = random.Random(seed)

@@ -3,7 +3,8 @@
 import random
 import unittest
 
-from tests.helpers import MARKS, MOST, Case, Fond, Sullen, all_rows, fitting, is_over, mixed, nested, no_shares, rising_lots, strange
+from tests.helpers import MARKS, MOST, Case, Fond, Sullen, all_rows, fitting, is_over, lower_and, mixed, nested, no_shares
+from tests.helpers import rising_lots, strange, told_help, upper_or
 from wishesrise.above import is_above
 from wishesrise.desks import Desk, tried
 from wishesrise.errors import Broken
@@ -20,18 +21,9 @@ def told_fits(shares):
     numbers = dict(zip(all_rows(len(shares.marks)), shares.numbers))
     for x in numbers:
         for y in numbers:
-            upper = format(int(x, 2) | int(y, 2), f"0{len(x)}b")
-            lower = format(int(x, 2) & int(y, 2), f"0{len(x)}b")
-            if numbers[upper] * numbers[lower] < numbers[x] * numbers[y]:
+            if numbers[upper_or(x, y)] * numbers[lower_and(x, y)] < numbers[x] * numbers[y]:
                 return False
     return True
-
-
-def told_help(shares, one, two):
-    """The help of two lots."""
-    numbers = dict(zip(all_rows(len(shares.marks)), shares.numbers))
-    both = sum(numbers[row] for row in one if row in two)
-    return sum(shares.numbers) * both - sum(numbers[row] for row in one) * sum(numbers[row] for row in two)
 
 
 def told_kind(shares):

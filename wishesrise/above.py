@@ -16,9 +16,14 @@ def less_at(shares, other):
     """Return the first rising lot with less share in the first shares, None if there is none."""
     check_two(shares, other)
     for lot in all_rising(shares.marks):
-        if shares.sum_of(lot) * other.total < other.sum_of(lot) * shares.total:
+        if has_less(shares, other, lot):
             return lot
     return None
+
+
+def has_less(shares, other, lot):
+    """Tell whether a lot has less share in the first shares than in the others."""
+    return shares.sum_of(lot) * other.total < other.sum_of(lot) * shares.total
 
 
 def coupling(shares, other):

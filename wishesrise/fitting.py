@@ -26,6 +26,11 @@ def near_failing(shares):
     return _first_failing(shares, [pair for pair in _crossing(len(shares.marks)) if _differences(pair) == 2])
 
 
+def speaks_against(shares, pair):
+    """Tell whether two rows, in any order, speak against fitting."""
+    return _times(shares, _ends(pair)) < _times(shares, pair)
+
+
 def climbs(shares):
     """Tell whether each mark comes with the other marks all the more, by products of numbers."""
     check_shares(shares)
@@ -69,7 +74,7 @@ def _times(shares, pair):
 def _first_failing(shares, pairs):
     """Return the first of these pairs of rows that speaks against fitting, None if there is none."""
     for pair in pairs:
-        if _times(shares, _ends(pair)) < _times(shares, pair):
+        if speaks_against(shares, pair):
             return pair
     return None
 
