@@ -4,20 +4,13 @@ import itertools
 import random
 import unittest
 
-from tests.helpers import MARKS, MOST, all_rows, fitting, mixed, rising_lots
+from tests.helpers import MARKS, MOST, all_rows, fitting, mixed, rising_lots, told_help
 from wishesrise import helping
 from wishesrise.fitting import fits
 from wishesrise.helping import help_of, hindering, is_kind, most_hindering
 from wishesrise.shares import Shares
 
 AB = ("a", "b")
-
-
-def told_help(shares, one, two):
-    """The help of two lots, worked out from the numbers."""
-    numbers = dict(zip(all_rows(len(shares.marks)), shares.numbers))
-    both = sum(numbers[row] for row in numbers if row in one and row in two)
-    return sum(shares.numbers) * both - sum(numbers[row] for row in one) * sum(numbers[row] for row in two)
 
 
 def told_helps(shares):

@@ -87,7 +87,7 @@ class DeskTrial:
         self.shut()
 
     def shut(self):
-        """Make the desk as it was at the beginning of the rows that end now."""
+        # Behind __exit__, this object has what was kept for the rows that end now.
         desk = self.desk
         desk.shares = self.shares
         desk.promises = self.promises

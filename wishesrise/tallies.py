@@ -115,7 +115,7 @@ class TallyTrial:
         self.shut()
 
     def shut(self):
-        """Make the tally as it was at the beginning of the rows that end now."""
+        # Behind __exit__, this object has what was kept for the rows that end now.
         tally = self.tally
         tally.numbers = self.numbers
         tally.log = self.log
