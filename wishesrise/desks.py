@@ -69,9 +69,7 @@ class DeskTrial:
 
     def __init__(self, desk):
         self.desk = desk
-        self.shares = desk.shares
-        self.promises = desk.promises
-        self.past = desk.past
+        # What is kept for the rows that end next; None outside of all rows.
         self.kept = None
 
     def __enter__(self):
@@ -80,18 +78,10 @@ class DeskTrial:
 
     def __exit__(self, kind, value, trace):
         kept = self.kept
-        self.shares = kept.shares
-        self.promises = kept.promises
-        self.past = kept.past
+        self.desk.shares = kept.shares
+        self.desk.promises = kept.promises
+        self.desk.past = kept.past
         self.kept = kept.before
-        self.shut()
-
-    def shut(self):
-        # Behind __exit__, this object has what was kept for the rows that end now.
-        desk = self.desk
-        desk.shares = self.shares
-        desk.promises = self.promises
-        desk.past = self.past
 
 
 class KeptDesk:
