@@ -22,6 +22,26 @@ def files():
     return found
 
 
+def rows_of_exit(node):
+    """All statements of the __exit__ of a class and of its methods that __exit__ calls, none if it has no __exit__."""
+    methods = {part.name: part for part in node.body if isinstance(part, ast.FunctionDef)}
+    waiting, found = ["__exit__"], []
+    while waiting:
+        method = methods.pop(waiting.pop(), None)
+        for part in ast.walk(method) if method else ():
+            if isinstance(part, ast.stmt) and part is not method:
+                found.append(part)
+            if isinstance(part, ast.Call) and isinstance(part.func, ast.Attribute):
+                waiting.append(part.func.attr)
+    return found
+
+
+def names_an_attribute(row):
+    """Tell whether a statement gives an attribute to a local name."""
+    return (isinstance(row, ast.Assign) and isinstance(row.value, ast.Attribute)
+            and any(isinstance(target, ast.Name) for target in row.targets))
+
+
 class Layout(unittest.TestCase):
     def test_files(self):
         names = [name for name, _ in files()]
@@ -51,6 +71,15 @@ class Layout(unittest.TestCase):
                     self.assertLessEqual({alias.name for alias in node.names}, LIBRARY[node.module])
                 elif isinstance(node, ast.ImportFrom):
                     self.assertTrue(node.module.startswith("wishesrise."), (name, node.module))
+
+    def test_one_name_for_an_attribute_where_a_with_ends(self):
+        endings = 0
+        for name, text in files():
+            for node in ast.walk(ast.parse(text)):
+                rows = rows_of_exit(node) if isinstance(node, ast.ClassDef) else []
+                self.assertLessEqual(sum(names_an_attribute(row) for row in rows), 1, (name, rows and node.name))
+                endings += bool(rows)
+        self.assertGreater(endings, 0)
 
 
 if __name__ == "__main__":

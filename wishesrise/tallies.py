@@ -99,8 +99,7 @@ class TallyTrial:
 
     def __init__(self, tally):
         self.tally = tally
-        self.numbers = tally.numbers
-        self.log = tally.log
+        # What is kept for the rows that end next; None outside of all rows.
         self.kept = None
 
     def __enter__(self):
@@ -109,16 +108,9 @@ class TallyTrial:
 
     def __exit__(self, kind, value, trace):
         kept = self.kept
-        self.numbers = kept.numbers
-        self.log = kept.log
+        self.tally.numbers = kept.numbers
+        self.tally.log = kept.log
         self.kept = kept.before
-        self.shut()
-
-    def shut(self):
-        # Behind __exit__, this object has what was kept for the rows that end now.
-        tally = self.tally
-        tally.numbers = self.numbers
-        tally.log = self.log
 
 
 class KeptTally:
